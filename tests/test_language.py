@@ -46,6 +46,42 @@ def trees():
     return [(path, ast.parse(path.read_text(encoding="ascii"))) for path in package_files()]
 
 
+def called(node):
+    """The name of Python's own or of a file that is called here, or of a method with a dot ahead."""
+    if isinstance(node, ast.Call) and isinstance(node.func, ast.Name):
+        return node.func.id
+    if isinstance(node, ast.Call) and isinstance(node.func, ast.Attribute):
+        return "." + node.func.attr
+    return None
+
+
+def with_above():
+    """Each node with the one above it."""
+    return [(path, above, node) for path, tree in trees() for above in ast.walk(tree)
+            for node in ast.iter_child_nodes(above)]
+
+
+def own_names(node):
+    """The parameters and locals of a def or lambda."""
+    told = [inner.arg for inner in ast.walk(node) if isinstance(inner, ast.arg)]
+    names = [inner for inner in ast.walk(node) if isinstance(inner, ast.Name)]
+    return told + [inner.id for inner in names if isinstance(inner.ctx, ast.Store)]
+
+
+def top_names(tree):
+    """The names that a file's top defines itself."""
+    told = [node.name for node in tree.body if isinstance(node, (ast.FunctionDef, ast.ClassDef))]
+    for node in tree.body:
+        if isinstance(node, ast.Assign):
+            told.extend(target.id for target in node.targets)
+    return told
+
+
+def imports_of(tree):
+    return [(node.module.split(".")[1], name.name) for node in tree.body if isinstance(node, ast.ImportFrom)
+            for name in node.names]
+
+
 def nodes_of(kind):
     return [(path, node) for path, tree in trees() for node in ast.walk(tree) if isinstance(node, kind)]
 
@@ -90,6 +126,65 @@ class LanguageTest(unittest.TestCase):
             self.assertRegex(node.module, r"\Atreesay\.[a-z_]+\Z")
             self.assertTrue((PACKAGE / (node.module.split(".")[1] + ".py")).is_file(), node.module)
             self.assertNotIn("*", [name.name for name in node.names])
+
+    def test_imports_come_from_the_file_that_defines_the_name_and_are_used(self):
+        defined = {path.stem: top_names(tree) for path, tree in trees()}
+        for path, tree in trees():
+            used = [node.id for node in ast.walk(tree) if isinstance(node, ast.Name)]
+            for module, name in imports_of(tree):
+                self.assertIn(name, defined[module], path.name)
+                self.assertIn(name, used, path.name)
+
+    def test_no_two_files_draw_from_one_another(self):
+        draws = {path.stem: {module for module, name in imports_of(tree)} for path, tree in trees()}
+        for step in draws:
+            draws = {one: set(others).union(*[draws[other] for other in others]) for one, others in draws.items()}
+        for one, others in draws.items():
+            self.assertNotIn(one, others)
+
+    def test_each_name_once(self):
+        for path, tree in trees():
+            taken = [name for module, name in imports_of(tree)]
+            told = top_names(tree) + taken
+            self.assertEqual(sorted(told), sorted(set(told)), path.name)
+            taken.extend(node.name for node in tree.body if isinstance(node, ast.ClassDef))
+            for node in ast.walk(tree):
+                if isinstance(node, (ast.FunctionDef, ast.Lambda)):
+                    self.assertEqual(set(own_names(node)) & set(taken), set(), path.name)
+
+    def test_walked_at_once(self):
+        takers = "list tuple dict sorted sum any all enumerate zip min max .join".split()
+        for path, above, node in with_above():
+            if called(node) in "zip enumerate reversed range .items .keys .values".split():
+                walked = isinstance(above, (ast.For, ast.comprehension)) and above.iter is node
+                taken = called(above) in takers and above.args[0] is node
+                self.assertTrue(walked or taken or called(above) == "zip", f"{path.name}:{node.lineno}")
+
+    def test_sets_are_neither_kept_nor_walked(self):
+        self.none_of([(path, node) for path, node in nodes_of((ast.Set, ast.SetComp))])
+        for path, above, node in with_above():
+            if called(node) in ("set", "frozenset"):
+                right = isinstance(above, (ast.Compare, ast.BinOp)) or called(above) in ("sorted", "len")
+                self.assertTrue(right, f"{path.name}:{node.lineno}")
+            joins = isinstance(node, ast.BinOp) and called(node.left) in ("set", "frozenset")
+            if joins:
+                right = isinstance(above, (ast.Compare, ast.BinOp)) or called(above) in ("sorted", "len")
+                self.assertTrue(right, f"{path.name}:{node.lineno}")
+
+    def test_keywords(self):
+        allowed = {
+            "sorted": ("key", "reverse"), "min": ("key", "default"), "max": ("key", "default"), "sum": ("start",),
+            "enumerate": ("start",), "zip": ("strict",),
+        }
+        for path, node in nodes_of(ast.Call):
+            name = called(node)
+            if name in BUILTINS or name is not None and name[1:] in METHODS:
+                for keyword in node.keywords:
+                    self.assertIn(keyword.arg, allowed.get(name, ()), path.name)
+
+    def test_no_annotations(self):
+        for path, node in nodes_of((ast.FunctionDef, ast.arg)):
+            self.assertIsNone(getattr(node, "returns", None) or getattr(node, "annotation", None), path.name)
 
     def test_functions(self):
         for path, node in nodes_of(ast.FunctionDef):

@@ -1,0 +1,28 @@
+"""Sets of stands: rising lists of numbers, each once."""
+
+
+def everywhere(machine):
+    return list(range(machine.many()))
+
+
+def flags(machine, stands):
+    told = [False for stand in range(machine.many())]
+    for stand in stands:
+        told[stand] = True
+    return told
+
+
+def others(machine, stands):
+    return without(everywhere(machine), stands)
+
+
+def shared(one, other):
+    return sorted(set(one) & set(other))
+
+
+def together(one, other):
+    return sorted(set(one) | set(other))
+
+
+def without(one, other):
+    return sorted(set(one) - set(other))
