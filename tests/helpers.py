@@ -47,6 +47,31 @@ def chance_machines(seed, count, many, degree=3, fair=2):
     ]
 
 
+def spread_machine(chance, machine, most):
+    """A machine that folds: of each stand 1 to most copies, each stepping to some copy of each stand ahead."""
+    copies = []
+    many = 0
+    for stand in range(machine.many()):
+        count = chance.randint(1, most)
+        copies.append(list(range(many, many + count)))
+        many += count
+    names = chance.sample(range(many), many)
+    steps = [[] for stand in range(many)]
+    for stand, own in enumerate(copies):
+        for one in own:
+            for after in machine.steps[stand]:
+                some = chance.sample(copies[after], chance.randint(1, len(copies[after])))
+                steps[names[one]].extend(names[each] for each in some)
+    marks = [(name, [names[one] for stand in stands for one in copies[stand]]) for name, stands in machine.marks]
+    fair = [[names[one] for stand in stands for one in copies[stand]] for stands in machine.fair]
+    return Machine(steps, marks, fair)
+
+
+def spread_machines(seed, count, many, most, degree=2, fair=2):
+    chance = random.Random(seed)
+    return [spread_machine(chance, machine, most) for machine in chance_machines(seed, count, many, degree, fair)]
+
+
 def chance_saying(chance, deep):
     if deep == 1 or chance.random() < 0.15:
         return chance.choice((All(), Mark("a"), Mark("b"), Mark("c")))
@@ -164,6 +189,67 @@ def plain_core(machine, within):
         if all(set(stands) & set(fair) for fair in machine.fair) and goes_round(machine, stands):
             ends.update(stands)
     return [stand for stand in sorted(within) if set(plain_reach(machine, within, stand)) & ends]
+
+
+def names_at(machine, stand):
+    return {name for name, stands in machine.marks if stand in stands}
+
+
+def fairs_at(machine, stand):
+    return {number for number, stands in enumerate(machine.fair) if stand in stands}
+
+
+def all_splits(stands):
+    """All ways to part stands into classes."""
+    if not stands:
+        return [[]]
+    told = []
+    for split in all_splits(stands[1:]):
+        told.append([[stands[0]]] + split)
+        for place in range(len(split)):
+            told.append(split[:place] + [[stands[0]] + split[place]] + split[place + 1:])
+    return told
+
+
+def split_holds(machine, split):
+    """Whether any two stands of a class have the same marks and fair sets, and step to the same classes."""
+    for together in split:
+        for one, other in itertools.product(together, together):
+            if names_at(machine, one) != names_at(machine, other) or fairs_at(machine, one) != fairs_at(machine, other):
+                return False
+            for each in split:
+                if set(machine.steps[one]) & set(each) and not set(machine.steps[other]) & set(each):
+                    return False
+    return True
+
+
+def plain_classes(machine):
+    """The fewest classes, found by looking at all ways to part the stands: for small machines."""
+    right = [split for split in all_splits(all_of(machine)) if split_holds(machine, split)]
+    fewest = min(len(split) for split in right)
+    found = [sorted(sorted(each) for each in split) for split in right if len(split) == fewest]
+    if len(found) != 1:
+        raise AssertionError("the fewest classes are not told by one split alone")
+    return found[0]
+
+
+def pairs_hold(machine, other, pairs):
+    for one, follower in pairs:
+        if names_at(machine, one) != names_at(other, follower):
+            return False
+        for after in machine.steps[one]:
+            if not any((after, answer) in pairs for answer in other.steps[follower]):
+                return False
+    return True
+
+
+def plain_followed(machine, other):
+    """All pairs of all lists of pairs that hold: for tiny machines."""
+    found = set()
+    for pairs in all_sets(list(itertools.product(all_of(machine), all_of(other)))):
+        if not set(pairs) <= found and pairs_hold(machine, other, pairs):
+            found.update(pairs)
+    return sorted(found)
 
 
 def fair_walks(machine, stand, most):

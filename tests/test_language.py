@@ -82,6 +82,17 @@ def imports_of(tree):
             for name in node.names]
 
 
+def only_reads(above, node):
+    """Whether what stands around a list or dict of a file's top reads it on the spot."""
+    if isinstance(above, ast.Attribute):
+        return above.attr in "get items keys values index count".split()
+    if isinstance(above, ast.Subscript):
+        return above.value is node and isinstance(above.ctx, ast.Load)
+    if isinstance(above, (ast.For, ast.comprehension)):
+        return above.iter is node
+    return isinstance(above, ast.Compare) or called(above) in "len list tuple dict sorted min max sum any all".split()
+
+
 def nodes_of(kind):
     return [(path, node) for path, tree in trees() for node in ast.walk(tree) if isinstance(node, kind)]
 
@@ -152,6 +163,15 @@ class LanguageTest(unittest.TestCase):
                 if isinstance(node, (ast.FunctionDef, ast.Lambda)):
                     self.assertEqual(set(own_names(node)) & set(taken), set(), path.name)
 
+    def test_lists_and_dicts_of_the_top_are_only_read(self):
+        for path, tree in trees():
+            kept = [node.targets[0].id for node in tree.body
+                    if isinstance(node, ast.Assign) and isinstance(node.value, (ast.List, ast.Dict))]
+            for above in ast.walk(tree):
+                for node in ast.iter_child_nodes(above):
+                    if isinstance(node, ast.Name) and isinstance(node.ctx, ast.Load) and node.id in kept:
+                        self.assertTrue(only_reads(above, node), f"{path.name}:{node.lineno}")
+
     def test_walked_at_once(self):
         takers = "list tuple dict sorted sum any all enumerate zip min max .join".split()
         for path, above, node in with_above():
@@ -181,6 +201,14 @@ class LanguageTest(unittest.TestCase):
             if name in BUILTINS or name is not None and name[1:] in METHODS:
                 for keyword in node.keywords:
                     self.assertIn(keyword.arg, allowed.get(name, ()), path.name)
+
+    def test_errors_are_taken_by_name_and_made_on_the_spot(self):
+        for path, node in nodes_of(ast.ExceptHandler):
+            self.assertIsNotNone(node.type, path.name)
+            names = [inner.id for inner in ast.walk(node.type) if isinstance(inner, ast.Name)]
+            self.assertEqual(set(names) & {"Exception", "TypeError"}, set(), path.name)
+        for path, node in nodes_of(ast.Raise):
+            self.assertIsInstance(node.exc, ast.Call, path.name)
 
     def test_no_annotations(self):
         for path, node in nodes_of((ast.FunctionDef, ast.arg)):

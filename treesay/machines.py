@@ -100,5 +100,8 @@ class Machine:
                 return sorted(stands)
         return []
 
+    def names_at(self, stand):
+        return sorted([name for name, stands in self.marks if stand in stands])
+
     def fair_at(self, number):
         return sorted(self.fair[number])

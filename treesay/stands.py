@@ -1,4 +1,4 @@
-"""Sets of stands: rising lists of numbers, each once."""
+"""Sets of stands, and of other things that can be sorted: rising lists, each thing once."""
 
 
 def everywhere(machine):
@@ -26,3 +26,7 @@ def together(one, other):
 
 def without(one, other):
     return sorted(set(one) - set(other))
+
+
+def unshared(one, other):
+    return sorted(set(one) ^ set(other))
